@@ -6,6 +6,7 @@ import (
 	"setsquare/api"
 	"setsquare/rational"
 	"setsquare/sample"
+	"setsquare/tower"
 )
 
 // The numbers are in normal form, and those of Abnormal are not.
@@ -38,5 +39,30 @@ func TestDestroy(t *testing.T) {
 	d := sample.Of("5 7")
 	if sample.Destroy([][]api.Rat{d, {d[1]}}) {
 		t.Error("lists that share memory")
+	}
+}
+
+// Radicands and elements are formed for a tower, and OtherLists and OtherTowers are not.
+func TestTowers(t *testing.T) {
+	s := sample.Source(2)
+	for kind := range 5 {
+		tw := [][]api.Rat{}
+		for len(tw) < 4 {
+			tw = append(tw, s.Radicand(tw, kind))
+		}
+		a := s.Element(1 << len(tw))
+		if !tower.Formed(tw, a) {
+			t.Fatalf("not formed: %s, %s", sample.Tower(tw), sample.Show(a))
+		}
+		for _, b := range sample.OtherLists(a) {
+			if tower.Formed(tw, b) {
+				t.Fatalf("formed: %s, %v", sample.Tower(tw), b)
+			}
+		}
+		for _, other := range sample.OtherTowers(tw) {
+			if tower.Formed(other, a) {
+				t.Fatalf("formed: %v", other)
+			}
+		}
 	}
 }

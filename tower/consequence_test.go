@@ -12,7 +12,7 @@ import (
 // P6.2: the elements of a tower are a commutative ring.
 func TestRing(t *testing.T) {
 	scenes(2000, 5, func(s *source, x scene) {
-		tw, a, b, c := x.tower, x.a, x.b, s.element(len(x.a))
+		tw, a, b, c := x.tower, x.a, x.b, s.Element(len(x.a))
 		zero := tower.FromRat(tw, rational.FromInt(0))
 		ab, bc := tower.Mul(tw, a, b), tower.Mul(tw, b, c)
 		expect(t, "P6.2: a + b = b + a", x, tower.Add(tw, a, b), tower.Add(tw, b, a))

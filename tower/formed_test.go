@@ -10,37 +10,6 @@ import (
 	"setsquare/tower"
 )
 
-// otherLists returns lists that do not have the length of a list, or contain a number that is not in normal form.
-func otherLists(a []api.Rat) [][]api.Rat {
-	result := [][]api.Rat{nil, {}, a[:len(a)-1], append(clone(a), rational.FromInt(0)), append(clone(a), a...), a[:len(a)/2]}
-	for k, x := range sample.Abnormal() {
-		for _, p := range []int{0, len(a) / 2, len(a) - 1, k % len(a)} {
-			other := clone(a)
-			other[p] = x
-			result = append(result, other)
-		}
-	}
-	return result
-}
-
-// otherTowers returns towers that are not formed, of any length.
-func otherTowers(t [][]api.Rat) [][][]api.Rat {
-	result := [][][]api.Rat{append(cloneTower(t), nil), append(cloneTower(t), make([][]api.Rat, 80)...), append([][]api.Rat{{}}, t...)}
-	for i, r := range t {
-		for _, other := range otherLists(r) {
-			changed := cloneTower(t)
-			changed[i] = other
-			result = append(result, changed)
-		}
-		if i > 0 {
-			exchanged := cloneTower(t)
-			exchanged[0], exchanged[i] = exchanged[i], exchanged[0]
-			result = append(result, exchanged)
-		}
-	}
-	return result
-}
-
 // checkNothing checks that all functions that compute with a and b have no result. One of the lists is not formed.
 func checkNothing(t *testing.T, tw [][]api.Rat, a, b []api.Rat) {
 	t.Helper()
@@ -66,10 +35,10 @@ func TestFormed(t *testing.T) {
 		if !tower.Formed(x.tower, x.a) || !tower.Formed(cloneTower(x.tower), clone(x.b)) {
 			t.Fatalf("P6.1: Formed: false for %.600s", x.show())
 		}
-		for _, a := range otherLists(x.a) {
+		for _, a := range sample.OtherLists(x.a) {
 			checkNothing(t, x.tower, a, x.b)
 		}
-		for _, tw := range otherTowers(x.tower) {
+		for _, tw := range sample.OtherTowers(x.tower) {
 			checkNothing(t, tw, x.a, x.b)
 			checkNothing(t, tw, nil, nil)
 			if a := tower.FromRat(tw, rational.FromInt(3)); len(a) != 0 {

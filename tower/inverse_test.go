@@ -85,7 +85,7 @@ func TestInverseLong(t *testing.T) {
 	for height := 4; height <= api.MaxHeight; height++ {
 		var tw [][]api.Rat
 		for range height {
-			tw = append(tw, s.radicand(tw, 0))
+			tw = append(tw, s.Radicand(tw, 0))
 		}
 		a := nought(1 << height)
 		for p := range a {

@@ -63,9 +63,9 @@ func TestLongLists(t *testing.T) {
 	for _, kind := range []int{0, 1, 4} {
 		var tw [][]api.Rat
 		for len(tw) < 7 {
-			tw = append(tw, s.radicand(tw, kind))
+			tw = append(tw, s.Radicand(tw, kind))
 		}
-		x := scene{tw, s.radicand(tw, 4), s.radicand(tw, 4)}
+		x := scene{tw, s.Radicand(tw, 4), s.Radicand(tw, 4)}
 		want := product(tw, x.a, x.b)
 		expect(t, "P6.1: Mul", x, tower.Mul(tw, x.a, x.b), want)
 		expect(t, "P6.1: Norm", x, tower.Norm(tw, x.a), norm(tw, x.a))
