@@ -4,6 +4,7 @@ import (
 	"setsquare/api"
 	"setsquare/integer"
 	"setsquare/rational"
+	"setsquare/residue"
 )
 
 // GCD returns the greatest common divisor with the leading coefficient 1.
@@ -40,8 +41,8 @@ func commonDivisor(a, b []api.Int) []api.Int {
 	var found image
 	// The loop ends: the divisor modulo a prime has a greater degree for some primes only, and the coefficients of
 	// the divisor are found as soon as the product of the other primes is great enough.
-	for p := primeBelow(primeLimit); ; p = primeBelow(p) {
-		factor := residue(lead, p)
+	for p := primeBelow(residue.Limit); ; p = primeBelow(p) {
+		factor := residue.Of(lead, p)
 		if factor == 0 {
 			continue
 		}
@@ -75,9 +76,9 @@ func (m *image) include(coefs []uint64, p uint64) bool {
 		return false
 	}
 	same := true
-	factor := inverse(residue(m.modulus, p), p)
+	factor := residue.Inverse(residue.Of(m.modulus, p), p)
 	for i, c := range coefs {
-		difference := (c + p - residue(m.coefs[i], p)) * factor % p
+		difference := (c + p - residue.Of(m.coefs[i], p)) * factor % p
 		if difference != 0 {
 			same = false
 			m.coefs[i] = integer.Add(m.coefs[i], integer.Mul(m.modulus, least(difference, p)))

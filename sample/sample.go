@@ -120,6 +120,15 @@ func CloneAll(lists [][]api.Rat) [][]api.Rat {
 	return result
 }
 
+// Backed returns lists in new memory, and the same lists with numbers behind their ends in the same memory.
+func Backed(lists [][]api.Rat) (cut, whole [][]api.Rat) {
+	for _, a := range lists {
+		long := append(Clone(a), Of("7 -8 9/5 10 11 12 13 14 15 16 17 18 19 20 21 22 23")...)
+		cut, whole = append(cut, long[:len(a)]), append(whole, long)
+	}
+	return cut, whole
+}
+
 func sameInt(a, b api.Int) bool { return a.Neg == b.Neg && slices.Equal(a.Mag, b.Mag) }
 
 // SameRat reports whether two numbers have the same form.

@@ -42,6 +42,27 @@ func TestDestroy(t *testing.T) {
 	}
 }
 
+// Backed keeps the lists, with numbers behind them.
+func TestBacked(t *testing.T) {
+	lists := sample.Lists("1 -2/3, 5")
+	cut, whole := sample.Backed(lists)
+	for k, a := range lists {
+		if !sample.Same(cut[k], a) || !sample.Same(whole[k][:len(a)], a) || len(whole[k]) == len(a) || &cut[k][0] != &whole[k][0] || &cut[k][0] == &a[0] {
+			t.Errorf("the list %s: %s and %s", sample.Show(a), sample.Show(cut[k]), sample.Show(whole[k]))
+		}
+	}
+}
+
+// Raised elements have further coefficients, which are 0.
+func TestRaised(t *testing.T) {
+	tw := sample.Lists("2, 3 0")
+	for text, want := range map[string]string{"5": "5 0 0 0", "1 2": "1 2 0 0", "1 2 3 4": "1 2 3 4"} {
+		if got := sample.Raised(tw, sample.Of(text)); !sample.Same(got, sample.Of(want)) {
+			t.Errorf("Raised(%s): %s", text, sample.Show(got))
+		}
+	}
+}
+
 // Radicands and elements are formed for a tower, and OtherLists and OtherTowers are not.
 func TestTowers(t *testing.T) {
 	s := sample.Source(2)

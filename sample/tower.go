@@ -49,6 +49,11 @@ func (s *Source) Radicand(t [][]api.Rat, kind int) []api.Rat {
 	return r
 }
 
+// Raised returns an element as one of a tower: its coefficients and zeros, in new memory.
+func Raised(t [][]api.Rat, a []api.Rat) []api.Rat {
+	return append(Clone(a), Zeros(1<<len(t)-len(a))...)
+}
+
 // OtherLists returns lists that do not have the length of a list, or contain a number that is not in normal form.
 func OtherLists(a []api.Rat) [][]api.Rat {
 	result := [][]api.Rat{nil, {}, a[:len(a)-1], append(Clone(a), rational.FromInt(0)), append(Clone(a), a...), a[:len(a)/2]}

@@ -27,15 +27,8 @@ func TestMemory(t *testing.T) {
 			// Rational elements, integers among them, take ways of their own.
 			x.a, x.b = tower.FromRat(x.tower, s.Number()), tower.FromRat(x.tower, rational.FromInt(int64(s.Below(3)-1)))
 		}
-		behind := of("7 -8 9/5 10 11 12 13 14 15 16 17")
-		var arguments, before, cut [][]api.Rat
-		for _, list := range append(cloneTower(x.tower), x.a, x.b) {
-			argument := append(clone(list), clone(behind)...)
-			arguments = append(arguments, argument)
-			before = append(before, clone(argument))
-			cut = append(cut, argument[:len(list)])
-		}
-		height := len(x.tower)
+		cut, arguments := sample.Backed(append(cloneTower(x.tower), x.a, x.b))
+		before, height := cloneTower(arguments), len(x.tower)
 		if !sample.Destroy(results(cut[:height:height+1], cut[height], cut[height+1], s.Below(200))) {
 			t.Fatalf("P7.1: results for %.600s share memory with one another", x.show())
 		}

@@ -16,6 +16,7 @@ var (
 	clone      = sample.Clone
 	cloneTower = sample.CloneAll
 	nought     = sample.Zeros
+	raised     = sample.Raised
 )
 
 // digits is the number of binary digits of reference values, and doubt is the power of 2 below which one counts as 0.
@@ -146,11 +147,6 @@ func scenes(count, most int, f func(s *source, x scene)) {
 // show returns the scene as a text.
 func (x scene) show() string {
 	return sample.Tower(x.tower) + ", elements " + show(x.a) + " and " + show(x.b)
-}
-
-// raised returns an element as one of a tower: its coefficients and zeros.
-func raised(t [][]api.Rat, a []api.Rat) []api.Rat {
-	return append(clone(a), nought(1<<len(t)-len(a))...)
 }
 
 // power returns the product of n factors a.

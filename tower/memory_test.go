@@ -71,15 +71,8 @@ func TestMemoryOfRationals(t *testing.T) {
 // P6.1: what lies behind the end of an argument is not changed.
 func TestCapacity(t *testing.T) {
 	scenes(300, 4, func(s *source, x scene) {
-		behind := of("7 8 9 10 11 12 13 14 15 16 17 18 19 20 21 22 23")
-		lists := append(cloneTower(x.tower), clone(x.a), clone(x.b))
-		var before, cut [][]api.Rat
-		for k, list := range lists {
-			lists[k] = append(list, clone(behind)...)
-			before = append(before, clone(lists[k]))
-			cut = append(cut, lists[k][:len(list)])
-		}
-		height := len(x.tower)
+		cut, lists := sample.Backed(append(cloneTower(x.tower), x.a, x.b))
+		before, height := cloneTower(lists), len(x.tower)
 		results(cut[:height], cut[height], cut[height+1], s.Number(), s.Below(height+1))
 		if !slices.EqualFunc(lists, before, same) {
 			t.Fatalf("P6.1: the memory behind an argument has changed: %.600s", x.show())
