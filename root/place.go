@@ -52,8 +52,12 @@ func (m place) image(a []api.Rat) (uint64, bool) {
 
 // rational returns the residue of a rational number, and whether there is one.
 func (m place) rational(c api.Rat) (uint64, bool) {
-	den := residue.Of(c.Den, m.prime)
-	return residue.Of(c.Num, m.prime) * residue.Inverse(den, m.prime) % m.prime, den != 0
+	num, den := residue.Of(c.Num, m.prime), residue.Of(c.Den, m.prime)
+	if den == 1 {
+		// This is the most frequent case, and to find an inverse takes long.
+		return num, true
+	}
+	return num * residue.Inverse(den, m.prime) % m.prime, den != 0
 }
 
 // keep adds square roots of further radicands to a place as long as they are squares, and keeps it among the places. It

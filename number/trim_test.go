@@ -1,0 +1,94 @@
+package number_test
+
+import (
+	"slices"
+	"testing"
+
+	"setsquare/api"
+	"setsquare/number"
+	"setsquare/rational"
+)
+
+// occurs reports whether a radicand occurs in an element, as the chapter defines it.
+func occurs(t [][]api.Rat, a []api.Rat, i int) bool {
+	for p, c := range a {
+		if p>>i&1 == 1 && rational.Sign(c) != 0 {
+			return true
+		}
+	}
+	for k := i + 1; k < len(t); k++ {
+		if occurs(t[:k], t[k], i) && occurs(t, a, k) {
+			return true
+		}
+	}
+	return false
+}
+
+// P9.1: Trim leaves out the radicands that do not occur; Height is the number of the others.
+func TestTrim(t *testing.T) {
+	left := map[int]int{}
+	check := func(a api.Number) {
+		var want [][]api.Rat
+		for i, r := range a.Radicands {
+			if occurs(a.Radicands, a.Coefs, i) {
+				want = append(want, r)
+			}
+		}
+		got := number.Trim(a)
+		if !number.Valid(got) || !near(value(got), value(a)) || len(got.Radicands) != len(want) || number.Height(a) != len(want) {
+			t.Fatalf("P9.1: Trim(%.900s): %.900s, Height %d", show(a), show(got), number.Height(a))
+		}
+		for k, r := range want {
+			// The radicands are the same, and in order: their values are.
+			first := api.Number{Radicands: a.Radicands[:place(a.Radicands, r)], Coefs: r}
+			if !near(value(api.Number{Radicands: got.Radicands[:k], Coefs: got.Radicands[k]}), value(first)) {
+				t.Fatalf("P9.1: Trim(%.900s): radicand %d: %.900s", show(a), k, show(got))
+			}
+		}
+		left[len(a.Radicands)-len(want)]++
+	}
+	pairs(600, 4, func(s *source, a, b api.Number) {
+		check(a)
+		check(s.variant(b, 5))
+	})
+	for k := range 3 {
+		if left[k] < 100 {
+			t.Errorf("the samples have too few cases: %v", left)
+		}
+	}
+}
+
+// place returns the place of a radicand.
+func place(t [][]api.Rat, r []api.Rat) int {
+	return slices.IndexFunc(t, func(other []api.Rat) bool { return len(other) == len(r) })
+}
+
+// P9.1: radicands that occur only in other radicands, or only in coefficients.
+func TestTrimTable(t *testing.T) {
+	for _, row := range []struct{ radicands, coefs, wantRadicands, wantCoefs string }{
+		{"", "5", "", "5"},
+		{"2", "5 0", "", "5"},
+		{"2", "0 0", "", "0"},
+		{"2", "5 1", "2", "5 1"},
+		{"2, 3 0", "1 2 0 0", "2", "1 2"},
+		{"2, 3 0", "1 0 2 0", "3", "1 2"},
+		{"2, 3 0", "0 0 0 2", "2, 3 0", "0 0 0 2"},
+		{"2, 3 0", "7 0 0 0", "", "7"},
+		{"2, 1 1", "0 0 2 0", "2, 1 1", "0 0 2 0"},
+		{"2, 1 1", "3 2 0 0", "2", "3 2"},
+		{"2, 3 0, 0 0 1 0", "1 0 0 0 4 0 0 0", "3, 0 1", "1 0 4 0"},
+		{"2, 3 0, 0 1 0 0", "1 0 0 0 4 0 0 0", "2, 0 1", "1 0 4 0"},
+		{"2, 3 0, 5 0 0 1", "1 0 0 0 4 0 0 0", "2, 3 0, 5 0 0 1", "1 0 0 0 4 0 0 0"},
+		{"2, 3 0, 5 0 0 0", "1 0 0 0 0 0 4 0", "3, 5 0", "1 0 0 4"},
+		{"2, 3 0, 5 0 0 0", "1 0 0 0 0 4 0 0", "2, 5 0", "1 0 0 4"},
+		{"2, 1 1, 0 0 1 0", "0 0 0 0 1 0 0 0", "2, 1 1, 0 0 1 0", "0 0 0 0 1 0 0 0"},
+		{"2, 1 1, 3 0 0 0", "0 0 0 0 1 0 0 0", "3", "0 1"},
+		{"2, 1 1, 3 0 0 0", "0 0 1 0 0 0 0 0", "2, 1 1", "0 0 1 0"},
+		{"2, 1 1, 3 0 0 0, 0 0 0 0 1 0 0 0", "0 0 0 0 0 0 0 0 0 1 0 0 0 0 0 0", "2, 3 0, 0 0 1 0", "0 0 0 0 0 1 0 0"},
+	} {
+		a, want := numberOf(row.radicands, row.coefs), numberOf(row.wantRadicands, row.wantCoefs)
+		if got := number.Trim(a); !number.Valid(a) || !identical(got, want) || number.Height(a) != len(want.Radicands) {
+			t.Errorf("P9.1: Trim(%s): %s, Height %d", show(a), show(got), number.Height(a))
+		}
+	}
+}
