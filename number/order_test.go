@@ -147,10 +147,28 @@ func TestEqualHigh(t *testing.T) {
 		expectEqual(t, "opposite sums", left, number.Neg(right), false)
 		left, right = total(left, rootOf(19)), total(right, rootOf(19))
 	}
-	// Both fields contain the square root of 2, and no other number in common.
-	left, right = hidden(3, 5, 7), hidden(11, 13, 17)
-	expectEqual(t, "the square root of 2", left, right, true)
-	expectEqual(t, "nearly the square root of 2", left, must(number.Add(right, small)), false)
+}
+
+// P9.1: Equal decides for numbers with MaxHeight radicands each, all of which are needed.
+func TestEqualHighest(t *testing.T) {
+	for _, most := range []int{3, 4, 6} {
+		// Both fields contain the square root of 2, and no other number in common.
+		left, right := hidden(2, []int64{3, 5, 7, 11, 13, 17}[:most]...), hidden(2, []int64{19, 23, 29, 31, 37, 41}[:most]...)
+		if number.Height(left) != most+2 || number.Height(right) != most+2 {
+			t.Errorf("%d and %d radicands", number.Height(left), number.Height(right))
+		}
+		expectEqual(t, "the square root of 2", left, right, true)
+		expectEqual(t, "the square roots of 2 and 3", left, hidden(3, 19, 23, 29, 31, 37), false)
+		for _, digits := range []int{60, 200} {
+			small := number.FromRat(sample.Long(1, 0, 1, digits))
+			expectEqual(t, "nearly the square root of 2", left, must(number.Add(right, small)), false)
+		}
+	}
+	left, right := total(hidden(2, 11, 13), hidden(3, 17, 19)), total(hidden(3, 23, 29), hidden(2, 31, 37))
+	expectEqual(t, "the sum of the square roots of 2 and 3", left, right, true)
+	expectEqual(t, "an opposite sum", left, number.Neg(right), false)
+	left, right = total(hidden(2, 5, 7), rootsOf(11, 13, 17, 19)), total(hidden(2, 31, 37), rootsOf(11, 13, 17, 19))
+	expectEqual(t, "the sum of five square roots", left, right, true)
 }
 
 // P9.1: the sums of these square roots differ by less than 10^-42: the difference is the eighth one of the square roots of
@@ -169,8 +187,8 @@ func TestEqualNearlySums(t *testing.T) {
 	expectEqual(t, "differences of square roots", total(even, rootOf(2)), total(odd, rootOf(2)), false)
 }
 
-// hidden returns the square root of 2 as a product of the square roots of y and 2 / y, where y contains some square roots.
-func hidden(l ...int64) api.Number {
+// hidden returns the square root of n as a product of the square roots of y and n / y, where y contains some square roots.
+func hidden(n int64, l ...int64) api.Number {
 	y := total(whole(1), rootsOf(l...))
-	return must(number.Mul(must(number.Sqrt(y)), must(number.Sqrt(must(number.Div(whole(2), y))))))
+	return must(number.Mul(must(number.Sqrt(y)), must(number.Sqrt(must(number.Div(whole(n), y))))))
 }

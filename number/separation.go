@@ -4,10 +4,11 @@ import (
 	"setsquare/api"
 	"setsquare/rational"
 	"setsquare/sign"
+	"setsquare/tower"
 )
 
-// Two numbers whose towers have no common tower with at most MaxHeight radicands are compared by their values: they are
-// equal if they are nearer to one another than different numbers of such towers can be.
+// Two numbers without a common tower with at most MaxHeight radicands are compared by their values: they are equal if they
+// are nearer to one another than different numbers of such towers can be.
 //
 // Let the difference of two numbers have a degree of at most d over the rational numbers, its product with the integer q
 // be an algebraic integer, and its conjugates (the values for other choices of the signs of the square roots) have
@@ -18,12 +19,41 @@ import (
 // conjugates are at most size, an integer that is not 0.
 type measure struct{ den, size api.Rat }
 
-// firstPrecision is the factor for the first comparison, which nearly always shows that different numbers are different.
+// lowDegree is the degree of a difference up to which it takes less time to compare values than to look for polynomials.
+const lowDegree = 1 << 10
+
+// equalValues reports whether the values of two numbers are equal.
+func equalValues(a, b api.Number) bool {
+	if !equalFloors(a, b, power(rational.FromInt(2), 512)) {
+		// Different numbers are nearly always found out here.
+		return false
+	}
+	degree := 1 << heightBound(a, b)
+	for d := 2; d*d < degree && degree > lowDegree; d *= 2 {
+		if f, ok := annihilator(a, d); ok {
+			if !tower.Zero(valueAt(f, b)) {
+				return false
+			}
+			degree = d * d
+		}
+	}
+	return equalFloors(a, b, separation(a, b, degree))
+}
+
+// power returns the power of a rational number for an exponent that is a power of 2.
+func power(c api.Rat, exponent int) api.Rat {
+	for ; exponent > 1; exponent /= 2 {
+		c = rational.Mul(c, c)
+	}
+	return c
+}
+
+// firstPrecision is the factor for the first comparison.
 const firstPrecision = 1 << 62
 
-// equalFloors reports whether the values of two numbers are equal.
-func equalFloors(a, b api.Number) bool {
-	limit, factor := separation(a, b), rational.FromInt(firstPrecision)
+// equalFloors reports whether the products of two numbers with factors up to a limit have the same integer parts.
+func equalFloors(a, b api.Number, limit api.Rat) bool {
+	factor := rational.FromInt(firstPrecision)
 	for {
 		if rational.Cmp(factor, limit) > 0 {
 			factor = limit
@@ -48,13 +78,10 @@ func floor(a api.Number, factor api.Rat) api.Int {
 }
 
 // separation returns a number whose product with the difference of two numbers is at least 1 or at most -1 if it is not 0.
-func separation(a, b api.Number) api.Rat {
+// The degree of the difference is at most degree, a power of 2.
+func separation(a, b api.Number, degree int) api.Rat {
 	x, y := measureOf(a), measureOf(b)
-	result := rational.Mul(rational.Mul(x.den, y.den), rational.Add(x.size, y.size))
-	for range heightBound(a, b) {
-		result = rational.Mul(result, result)
-	}
-	return result
+	return power(rational.Mul(rational.Mul(x.den, y.den), rational.Add(x.size, y.size)), degree)
 }
 
 // heightBound returns a number that is not less than the height of the list of two numbers.

@@ -148,13 +148,22 @@ func TestSeparation(t *testing.T) {
 			if Equal(a, b) {
 				continue
 			}
-			product := difference.Mul(difference, float(separation(a, b)))
+			product := difference.Mul(difference, float(separation(a, b, 1<<heightBound(a, b))))
 			if product.Abs(product).Cmp(big.NewFloat(1)) < 0 {
 				t.Errorf("P9.1: %v and %v: the separation is too small", a, b)
 			}
-			if !equalFloors(a, a) || equalFloors(a, b) {
+			if !equalValues(a, a) || equalValues(a, b) {
 				t.Errorf("P9.1: %v and %v: the floors", a, b)
 			}
+		}
+	}
+}
+
+// P9.1: powers with exponents that are powers of 2.
+func TestPower(t *testing.T) {
+	for exponent, want := range map[int]string{1: "3/2", 2: "9/4", 4: "81/16", 8: "6561/256"} {
+		if got := power(rational.Frac(3, 2), exponent); rational.Format(got) != want {
+			t.Errorf("P9.1: the power with the exponent %d: %s", exponent, rational.Format(got))
 		}
 	}
 }
