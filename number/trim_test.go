@@ -24,7 +24,7 @@ func occurs(t [][]api.Rat, a []api.Rat, i int) bool {
 	return false
 }
 
-// P9.1: Trim leaves out the radicands that do not occur; Height is the number of the others.
+// P9.1: Trim leaves out the radicands that do not occur; Height is the number of all radicands of its argument.
 func TestTrim(t *testing.T) {
 	left := map[int]int{}
 	check := func(a api.Number) {
@@ -35,9 +35,10 @@ func TestTrim(t *testing.T) {
 			}
 		}
 		got := number.Trim(a)
-		if !number.Valid(got) || !near(value(got), value(a)) || len(got.Radicands) != len(want) || number.Height(a) != len(want) {
-			t.Fatalf("P9.1: Trim(%.900s): %.900s, Height %d", show(a), show(got), number.Height(a))
+		if !number.Valid(got) || !near(value(got), value(a)) || len(got.Radicands) != len(want) {
+			t.Fatalf("P9.1: Trim(%.900s): %.900s", show(a), show(got))
 		}
+		expectHeights(t, a, got)
 		for k, r := range want {
 			// The radicands are the same, and in order: their values are.
 			first := api.Number{Radicands: a.Radicands[:place(a.Radicands, r)], Coefs: r}
@@ -54,6 +55,46 @@ func TestTrim(t *testing.T) {
 	for k := range 3 {
 		if left[k] < 100 {
 			t.Errorf("the samples have too few cases: %v", left)
+		}
+	}
+}
+
+// expectHeights checks the numbers of radicands of numbers.
+func expectHeights(t *testing.T, l ...api.Number) {
+	t.Helper()
+	for _, a := range l {
+		if got := number.Height(a); got != len(a.Radicands) {
+			t.Errorf("P9.1: Height(%.900s): %d", show(a), got)
+		}
+	}
+}
+
+// P9.1: Height also counts the radicands that do not occur; only Trim leaves them out.
+func TestHeight(t *testing.T) {
+	for _, row := range []struct {
+		radicands, coefs string
+		all, needed      int
+	}{
+		{"", "5", 0, 0},
+		{"2", "-1/2 0", 1, 0},
+		{"2", "-1/2 1", 1, 1},
+		{"2, 3 0", "0 0 0 0", 2, 0},
+		{"2, 3 0", "1 2 0 0", 2, 1},
+		{"2, 1 1", "0 0 2 0", 2, 2},
+		{"2, 3 0, 5 0 0 0", "1 0 0 0 0 0 4 0", 3, 2},
+	} {
+		a := numberOf(row.radicands, row.coefs)
+		if got, trimmed := number.Height(a), number.Height(number.Trim(a)); got != row.all || trimmed != row.needed {
+			t.Errorf("P9.1: Height(%s): %d, and %d for the trimmed number", show(a), got, trimmed)
+		}
+	}
+	joined, e := number.Join([]api.Number{rootOf(2), number.FromInt(3), rootOf(6), rootOf(3)})
+	if e != api.OK || len(joined) != 4 {
+		t.Fatalf("P9.1: Join: %v, %v", joined, e)
+	}
+	for _, a := range joined {
+		if number.Height(a) != 2 {
+			t.Errorf("P9.1: Height(%s): %d", show(a), number.Height(a))
 		}
 	}
 }
@@ -87,8 +128,10 @@ func TestTrimTable(t *testing.T) {
 		{"2, 1 1, 3 0 0 0, 0 0 0 0 1 0 0 0", "0 0 0 0 0 0 0 0 0 1 0 0 0 0 0 0", "2, 3 0, 0 0 1 0", "0 0 0 0 0 1 0 0"},
 	} {
 		a, want := numberOf(row.radicands, row.coefs), numberOf(row.wantRadicands, row.wantCoefs)
-		if got := number.Trim(a); !number.Valid(a) || !identical(got, want) || number.Height(a) != len(want.Radicands) {
-			t.Errorf("P9.1: Trim(%s): %s, Height %d", show(a), show(got), number.Height(a))
+		got := number.Trim(a)
+		if !number.Valid(a) || !identical(got, want) {
+			t.Errorf("P9.1: Trim(%s): %s", show(a), show(got))
 		}
+		expectHeights(t, a, got)
 	}
 }
