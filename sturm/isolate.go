@@ -1,8 +1,6 @@
 package sturm
 
 import (
-	"slices"
-
 	"setsquare/api"
 	"setsquare/interval"
 	"setsquare/polynomial"
@@ -12,17 +10,27 @@ import (
 // Roots are isolated by halving intervals until Descartes' rule of signs leaves no doubt, and not with the chain, whose
 // coefficients become very long for polynomials of great degrees.
 
-// everywhere returns an interval whose Low is less, and whose High is greater than all roots of a.
+// everywhere returns an interval whose Low is less, and whose High is greater than all roots of a. The leading coefficient
+// of a is 1, unless a is empty.
 func everywhere(a []api.Rat) api.Interval {
-	two := rational.FromInt(2)
-	// The bound of a itself can be about as great as its coefficients, even if all roots are small. The roots of
-	// a(r X) are those of a divided by r.
-	r := two
-	for rational.Cmp(polynomial.Bound(polynomial.Compose(a, []api.Rat{rational.FromInt(0), r})), two) > 0 {
-		r = rational.Mul(r, r)
+	// If the coefficients of X^k are at most r^(n-k), those of a(r X) are at most r^n, the last one. So its roots are less
+	// than 2. (The bound of a itself can be as great as the coefficients, even if all roots are small.)
+	exponent := 0
+	for k, c := range a {
+		digits := binaryDigits(c.Num.Mag) - binaryDigits(c.Den.Mag) + 1
+		if distance := len(a) - 1 - k; distance > 0 {
+			exponent = max(exponent, (digits+distance-1)/distance)
+		}
 	}
-	high := rational.Mul(r, two)
+	high := powerOfTwo(exponent + 1)
 	return api.Interval{Low: rational.Neg(high), High: high}
+}
+
+// powerOfTwo returns a power of 2, whose exponent is not negative.
+func powerOfTwo(exponent int) api.Rat {
+	mag := make([]uint32, exponent/32+1)
+	mag[exponent/32] = 1 << (exponent % 32)
+	return whole(api.Int{Mag: mag})
 }
 
 // isolate returns, in ascending order, parts of an interval that contain one root each, for all roots that the
@@ -35,7 +43,7 @@ func isolate(a []api.Rat, i api.Interval) []api.Interval {
 	if !ok || rational.Cmp(i.Low, i.High) == 0 {
 		return nil
 	}
-	return ordinatesOf(a, i).isolate(i, nil)
+	return search(a, i, rounded{}, nil)
 }
 
 // ordinates describe a polynomial of degree n on an interval: up to a common factor, they are its coefficients in
@@ -54,44 +62,31 @@ func ordinatesOf(a []api.Rat, i api.Interval) ordinates {
 		coefs[k], _ = rational.Div(c, binomial)
 		binomial = rational.Mul(binomial, rational.Frac(int64(degree-k), int64(k+1)))
 	}
-	result := ordinates(primitive(coefs))
-	result.accumulate()
-	return result
-}
-
-// accumulate adds to each number, from the last one to number k, the one before it, for k = 1, 2 and so on. It returns
-// the last numbers before the first and after each of these rounds.
-func (o ordinates) accumulate() ordinates {
-	last := len(o) - 1
-	ends := ordinates{o[last]}
-	for k := 1; k <= last; k++ {
-		for j := last; j >= k; j-- {
+	o := ordinates(primitive(coefs))
+	for k := range o {
+		for j := degree; j > k; j-- {
 			o[j] = rational.Add(o[j], o[j-1])
 		}
-		ends = append(ends, o[last])
 	}
-	return ends
+	return o
 }
 
-// halves returns the ordinates on the halves of the interval (de Casteljau's algorithm). Where it takes means, these
-// are sums, and so the numbers are multiplied by powers of 2 afterwards.
-func (o ordinates) halves() (ordinates, ordinates) {
-	left := slices.Clone(o)
-	right := left.accumulate()
-	factor := rational.FromInt(1)
-	for k := range slices.Backward(left) {
-		left[k], right[k] = rational.Mul(left[k], factor), rational.Mul(right[k], factor)
-		factor = rational.Mul(factor, rational.FromInt(2))
-	}
-	slices.Reverse(right)
-	return left, right
-}
-
-// isolate appends parts of an interval with these ordinates that contain one root each.
-func (o ordinates) isolate(i api.Interval, found []api.Interval) []api.Interval {
-	roots := changes(o)
+// roots returns a number that is at least that of the roots that the interval contains, and equal to it if it is less
+// than 2.
+func (o ordinates) roots() int {
 	if rational.Sign(o[len(o)-1]) == 0 {
-		roots++
+		return changes(o) + 1
+	}
+	return changes(o)
+}
+
+// search appends the parts of an interval that contain one root of a each. The rounded ordinates of a on the interval may
+// be missing.
+func search(a []api.Rat, i api.Interval, r rounded, found []api.Interval) []api.Interval {
+	roots, ok := r.roots()
+	if !ok {
+		exact := ordinatesOf(a, i)
+		roots, r = exact.roots(), exact.rounded()
 	}
 	switch roots {
 	case 0:
@@ -99,10 +94,10 @@ func (o ordinates) isolate(i api.Interval, found []api.Interval) []api.Interval 
 	case 1:
 		return append(found, i)
 	}
-	left, right := o.halves()
+	left, right := r.halves()
 	// The middle is computed twice, because the intervals share no memory.
-	found = left.isolate(api.Interval{Low: i.Low, High: middle(i)}, found)
-	return right.isolate(api.Interval{Low: middle(i), High: i.High}, found)
+	found = search(a, api.Interval{Low: i.Low, High: middle(i)}, left, found)
+	return search(a, api.Interval{Low: middle(i), High: i.High}, right, found)
 }
 
 // middle returns the number in the middle of an interval.

@@ -13,22 +13,34 @@ import (
 // contains returns the number of roots that an interval contains, which is valid.
 func contains(k known, i api.Interval) int { return k.count(value(i.Low), value(i.High)) }
 
-// P5.1: as many valid intervals as there are roots, each with one root, in ascending order.
+// checkIsolate checks that there are as many valid intervals as there are roots, each with one root, in ascending order.
+func checkIsolate(t *testing.T, k known) {
+	t.Helper()
+	all := sturm.Isolate(k.poly)
+	if len(all) != len(k.roots) {
+		t.Fatalf("P5.1: Isolate(%.300s): got %d intervals for %d roots", show(k.poly), len(all), len(k.roots))
+	}
+	for n, i := range all {
+		switch {
+		case !interval.Valid(i) || contains(k, i) != 1:
+			t.Fatalf("P5.1: Isolate(%.300s): %s does not contain one root", show(k.poly), showInterval(i))
+		case n > 0 && rational.Cmp(i.Low, all[n-1].High) < 0:
+			t.Fatalf("P5.1: Isolate(%.300s): %s follows %s", show(k.poly), showInterval(i), showInterval(all[n-1]))
+		}
+	}
+}
+
+// P5.1: the intervals of all kinds of polynomials.
 func TestIsolate(t *testing.T) {
-	polynomials(func(s *source, k known) {
-		all := sturm.Isolate(k.poly)
-		if len(all) != len(k.roots) {
-			t.Fatalf("P5.1: Isolate(%.300s): got %d intervals for %d roots", show(k.poly), len(all), len(k.roots))
-		}
-		for n, i := range all {
-			switch {
-			case !interval.Valid(i) || contains(k, i) != 1:
-				t.Fatalf("P5.1: Isolate(%.300s): %s does not contain one root", show(k.poly), showInterval(i))
-			case n > 0 && rational.Cmp(i.Low, all[n-1].High) < 0:
-				t.Fatalf("P5.1: Isolate(%.300s): %s follows %s", show(k.poly), showInterval(i), showInterval(all[n-1]))
-			}
-		}
-	})
+	polynomials(func(s *source, k known) { checkIsolate(t, k) })
+}
+
+// P5.1: polynomials of great degrees, with roots that are close to one another or far apart, and with ends and middles of
+// intervals that are roots.
+func TestIsolateGreat(t *testing.T) {
+	for _, k := range great() {
+		checkIsolate(t, k)
+	}
 }
 
 // widths are positive numbers: small and great ones, and such that are no powers of 1/2.

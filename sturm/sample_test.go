@@ -190,6 +190,29 @@ func wilkinson(n int) known {
 	return product(big.NewRat(1, 1), factors, slices.Repeat([]int{1}, n))
 }
 
+// great returns polynomials of great degrees.
+func great() []known {
+	s := source(57)
+	var powers, halves, mixed []factor
+	for k := range int64(50) {
+		powers = append(powers, linear(new(big.Rat).SetFrac(power(3, int(k)), big.NewInt(1000))))
+		halves = append(halves, linear(new(big.Rat).SetFrac(big.NewInt(1-2*(k%2)), power(2, int(k)))))
+	}
+	for k := range int64(25) {
+		near := new(big.Rat).SetFrac(big.NewInt(k/5), power(10, 9*int(k%5)))
+		middle := near.Add(near, big.NewRat(k%5, 7))
+		mixed = append(mixed, quadratic(middle, big.NewRat(2, 1+2*k)), quadratic(middle, big.NewRat(-1, 1+10*k*k*k)))
+	}
+	result := []known{wilkinson(80), product(big.NewRat(3, 5), mixed, slices.Repeat([]int{1}, len(mixed)))}
+	for _, factors := range [][]factor{powers, halves} {
+		result = append(result, product(big.NewRat(1, 1), factors, slices.Repeat([]int{1}, len(factors))))
+	}
+	for range 5 {
+		result = append(result, s.known(60))
+	}
+	return result
+}
+
 // rootless are polynomials of all kinds without roots: 0 in its forms, constants, and others.
 func rootless() [][]api.Rat {
 	return [][]api.Rat{nil, {}, of("0"), of("0 0 0"), of("1"), of("-2/3"), of("5 0 0"), of("1 0 1"), of("2 2 1 0"), of("-1 0 0 0 -1"), of("4 0 4 0 1")}
