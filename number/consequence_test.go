@@ -10,9 +10,9 @@ import (
 // triples calls a function with many triples of numbers.
 func triples(count int, f func(s *source, a, b, c api.Number)) {
 	pairs(count, 2, func(s *source, a, b api.Number) {
-		c := s.number(s.Below(3))
+		c := s.Constructible(s.Below(3))
 		if s.Below(3) == 0 {
-			c = s.variant(a, 2)
+			c = s.Variant(a, 2)
 		}
 		f(s, a, b, c)
 	})
@@ -102,7 +102,7 @@ func TestDifference(t *testing.T) {
 	equal := 0
 	triples(600, func(s *source, a, b, _ api.Number) {
 		if s.Below(2) == 0 {
-			b = s.variant(a, 3)
+			b = s.Variant(a, 3)
 		}
 		difference := must(number.Sub(a, b))
 		zero, ok := number.Rational(difference)
@@ -122,7 +122,7 @@ func TestDifference(t *testing.T) {
 // P9.2: sums and products do not depend on the representations of the summands and factors.
 func TestRepresentations(t *testing.T) {
 	triples(300, func(s *source, a, b, _ api.Number) {
-		x, y := s.variant(a, 3), s.variant(b, 3)
+		x, y := s.Variant(a, 3), s.Variant(b, 3)
 		law(t, "a sum", plus(a, b), plus(x, y))
 		law(t, "a product", times(a, b), times(x, y))
 		if number.Sign(a) >= 0 {

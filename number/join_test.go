@@ -39,7 +39,7 @@ func expectJoin(t *testing.T, l []api.Number, height int) {
 func TestJoin(t *testing.T) {
 	lower := 0
 	pairs(500, 2, func(s *source, a, b api.Number) {
-		l := []api.Number{a, b, s.number(s.Below(3)), s.variant(b, 3), whole(int64(s.Below(9) - 4))}
+		l := []api.Number{a, b, s.Constructible(s.Below(3)), s.Variant(b, 3), whole(int64(s.Below(9) - 4))}
 		l = l[:1+s.Below(5)]
 		sum := 0
 		for _, c := range l {
@@ -271,10 +271,10 @@ func TestNotTooLarge(t *testing.T) {
 
 // P9.1: the radicands that Join has to find belong to towers of another order, with square factors.
 func TestJoinVariants(t *testing.T) {
-	s := source{93}
+	s := source{Source: 93}
 	for range 150 {
-		a := s.number(1 + s.Below(4))
-		b := s.variant(a, len(a.Radicands))
+		a := s.Constructible(1 + s.Below(4))
+		b := s.Variant(a, len(a.Radicands))
 		expectJoin(t, []api.Number{a, b}, len(a.Radicands))
 		expectSame(t, "a variant", a, b)
 		if a := (api.Number{Radicands: a.Radicands, Coefs: sample.Zeros(len(a.Coefs))}); number.Equal(a, b) != (number.Sign(b) == 0) {

@@ -63,7 +63,7 @@ func TestFromRationals(t *testing.T) {
 			t.Errorf("P9.1: FromInt(%d): %s", n, show(a))
 		}
 	}
-	s := source{92}
+	s := source{Source: 92}
 	for range 300 {
 		c := s.Number()
 		a := number.FromRat(c)

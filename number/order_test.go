@@ -14,7 +14,7 @@ func TestOrder(t *testing.T) {
 	equal := 0
 	pairs(1500, 3, func(s *source, a, b api.Number) {
 		if s.Below(4) == 0 {
-			b = s.variant(a, 3)
+			b = s.Variant(a, 3)
 		}
 		x, y := value(a), value(b)
 		want := order(x, y)

@@ -50,7 +50,7 @@ func TestTrim(t *testing.T) {
 	}
 	pairs(600, 4, func(s *source, a, b api.Number) {
 		check(a)
-		check(s.variant(b, 5))
+		check(s.Variant(b, 5))
 	})
 	for k := range 3 {
 		if left[k] < 100 {
