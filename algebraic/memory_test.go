@@ -6,7 +6,6 @@ import (
 
 	"setsquare/algebraic"
 	"setsquare/api"
-	"setsquare/rational"
 	"setsquare/sample"
 	"setsquare/specimen"
 )
@@ -80,18 +79,7 @@ func TestRepetition(t *testing.T) {
 
 // The functions terminate without a panic for values that are no numbers; these have no minimal polynomial.
 func TestStrange(t *testing.T) {
-	l := []api.Number{{}, {Coefs: make([]api.Rat, 1)}, {Radicands: make([][]api.Rat, 1)}, {Radicands: make([][]api.Rat, 70), Coefs: sample.Of("1")}, {Radicands: [][]api.Rat{make([]api.Rat, 1)}, Coefs: sample.Of("1 2")}}
-	for _, row := range [][2]string{
-		{"4", "2 -1"}, {"-2", "1 1"}, {"0", "0 1"}, {"2", "1 2 3"}, {"2", "1"}, {"2 3", "1 2"}, {"", ""}, {"", "1 2"},
-		{"2, 8 0", "0 2 -1 0"}, {"2, 3", "1 2 3 4"}, {"2, 1 -1", "1 2 3 4"}, {"-1, -1 0", "1 1 1 1"}, {"2, 3 0", "1 2 3"}, {"2, 3 0, 6 0 0 0", "0 0 0 1 1 0 0 0"},
-	} {
-		l = append(l, numberOf(row[0], row[1]))
-	}
-	for _, c := range sample.Abnormal() {
-		two := rational.FromInt(2)
-		l = append(l, api.Number{Coefs: []api.Rat{c}}, api.Number{Radicands: [][]api.Rat{{c}}, Coefs: sample.Of("1 1")}, api.Number{Radicands: [][]api.Rat{{two}}, Coefs: []api.Rat{two, c}}, api.Number{Radicands: [][]api.Rat{{two}, {two, c}}, Coefs: sample.Of("1 2 3 4")})
-	}
-	for _, a := range l {
+	for _, a := range specimen.Strange() {
 		if f := algebraic.Minimal(a); len(f) != 0 {
 			t.Errorf("Minimal(%v): %s", a, showPoly(f))
 		}

@@ -6,8 +6,8 @@ import (
 
 	"setsquare/api"
 	"setsquare/number"
-	"setsquare/rational"
 	"setsquare/sample"
+	"setsquare/specimen"
 )
 
 // results returns the lists of all results for two numbers. The square of a number has a square root in its tower.
@@ -84,39 +84,9 @@ func TestRepetition(t *testing.T) {
 	})
 }
 
-// strange returns values that are not valid numbers.
-func strange() []api.Number {
-	l := []api.Number{
-		{},
-		{Coefs: of("1 2")},
-		{Coefs: make([]api.Rat, 1)},
-		{Radicands: make([][]api.Rat, 1)},
-		{Radicands: make([][]api.Rat, 70), Coefs: of("1")},
-		{Radicands: [][]api.Rat{make([]api.Rat, 1)}, Coefs: of("1 2")},
-	}
-	for _, row := range [][2]string{
-		{"4", "2 -1"}, {"-2", "1 1"}, {"0", "0 1"}, {"2", "1 2 3"}, {"2", "1"}, {"2 3", "1 2"}, {"", ""},
-		{"2, 8 0", "0 2 -1 0"}, {"2, 3", "1 2 3 4"}, {"2, 1 -1", "1 2 3 4"}, {"-1, -1 0", "1 1 1 1"}, {"2, 3 0", "1 2 3"},
-		{"2, 3 0, 6 0 0 0", "0 0 0 1 1 0 0 0"}, {"4, 1 1, 5 1 1 -1", "0 0 0 1 1 0 0 -1"},
-	} {
-		l = append(l, numberOf(row[0], row[1]))
-	}
-	for _, c := range sample.Abnormal() {
-		two := rational.FromInt(2)
-		l = append(l,
-			api.Number{Coefs: []api.Rat{c}},
-			api.Number{Radicands: towerOf("2"), Coefs: []api.Rat{two, c}},
-			api.Number{Radicands: [][]api.Rat{{c}}, Coefs: of("1 1")},
-			api.Number{Radicands: [][]api.Rat{{two}, {c, two}}, Coefs: of("1 1 0 1")},
-			api.Number{Radicands: [][]api.Rat{{two}, {two, c}}, Coefs: []api.Rat{c, two, c, two}},
-		)
-	}
-	return l
-}
-
 // Valid is false for values that are no numbers, and the other functions terminate without a panic for them.
 func TestStrange(t *testing.T) {
-	all := strange()
+	all := specimen.Strange()
 	for _, a := range all {
 		if number.Valid(a) {
 			t.Errorf("P9.1: Valid(%v)", a)

@@ -63,3 +63,12 @@ func TestRoots(t *testing.T) {
 		t.Error("the square root of -1")
 	}
 }
+
+// Values that are strange are not valid.
+func TestStrange(t *testing.T) {
+	for _, a := range specimen.Strange() {
+		if number.Valid(a) {
+			t.Errorf("a valid number: %v", a)
+		}
+	}
+}
